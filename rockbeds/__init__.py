@@ -1,0 +1,1 @@
+"""Rockbeds: read a section through the ground back to its history."""
