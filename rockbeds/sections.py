@@ -10,6 +10,11 @@ def is_width(value):
     return is_level(value) and 1 <= value <= Section.MOST_COLUMNS
 
 
+def need_width(value):
+    if not is_width(value):
+        raise WrongWidth(value)
+
+
 def are_columns(value):
     """Whether any value is a row of columns that can be a section."""
     if not isinstance(value, (list, tuple)) or not is_width(len(value)):
@@ -55,8 +60,7 @@ class Section:
     @classmethod
     def flat(cls, width):
         """So many columns of bedrock with foot 0, without beds and marks."""
-        if not is_width(width):
-            raise WrongWidth(width)
+        need_width(width)
         columns = [Column() for _ in range(width)]
         return cls(columns)
 

@@ -4,6 +4,10 @@ import unittest
 
 GREAT = 10 ** 59 + 7
 
+NO_NAMES = ["", "clayclayc", "Clay", "CLAY", "cl ay", "clay1", "cl-ay", "clay\n", " clay", "`", "{", "#",
+            None, True, False, 0, 1, ("clay",), ["clay"], {"clay": 1}, (), [], {}]
+NO_LEVELS = [True, False, None, "", "4", "clay", (4,), [4], {4: 4}, (), [], {}]
+
 
 def any_values():
     """Values of every kind that a caller may pass as "any value", new ones each time."""

@@ -2,11 +2,8 @@
 
 from rockbeds.columns import Column, is_level, is_name
 from rockbeds.errors import InvalidBeds, InvalidLevel, InvalidName, NoPlace
-from tests.case import GREAT, Case, any_values
-
-NO_NAMES = ["", "clayclayc", "Clay", "CLAY", "cl ay", "clay1", "cl-ay", "clay\n", " clay", "`", "{", "#",
-            None, True, False, 0, 1, ("clay",), ["clay"], {"clay": 1}, (), [], {}]
-NO_LEVELS = [True, False, None, "", "4", "clay", (4,), [4], {4: 4}, (), [], {}]
+from tests.case import GREAT, NO_LEVELS, NO_NAMES, Case, any_values
+from tests.cells import Cells, Numbers
 
 BEDS = [("clay", 4, None), ("sand", 2, "storm"), ("sand", 1, None), ("clay", 3, None)]
 
@@ -285,52 +282,14 @@ class ChangedTest(Case):
             self.assertIn(name, vars(Column))
 
 
-class Cells:
-    """A column as the document tells it, level by level: another way to the same results."""
-
-    def __init__(self):
-        self.foot, self.root, self.cells, self.marks = 0, None, [], {}
-
-    def lay(self, rock, level):
-        while self.foot + len(self.cells) < level:
-            self.cells.append(rock)
-
-    def cut(self, name, level):
-        if self.foot + len(self.cells) < level:
-            return
-        self.foot = min(self.foot, level)
-        del self.cells[level - self.foot:]
-        self.marks = {height: mark for height, mark in self.marks.items() if height < level}
-        self.marks[level] = name
-
-    def dike(self, rock, level):
-        self.foot, self.root, self.cells, self.marks = level, rock, [], {}
-
-    def lift(self, by):
-        self.foot += by
-        self.marks = {height + by: mark for height, mark in self.marks.items()}
-
-    def column(self):
-        beds, start = [], 0
-        for at, rock in enumerate(self.cells):
-            mark = self.marks.get(self.foot + at + 1)
-            if mark or self.cells[at + 1:at + 2] != [rock]:
-                beds.append((rock, at + 1 - start, mark))
-                start = at + 1
-        return Column(self.foot, beds, root=self.root, mark=self.marks.get(self.foot))
-
-
 class CellsTest(Case):
 
     def test_long_histories_of_a_column(self):
-        number = 1
+        numbers = Numbers()
         for _ in range(400):
             cells, column = Cells(), Column()
             for _ in range(25):
-                number = (number * 1103515245 + 12345) % 2 ** 31
-                name = "abc"[number // 64 % 3]
-                level = number // 1024 % 17 - 8
-                kind = number // 2 ** 20 % 12
+                name, level, kind = numbers.one_of("abc"), numbers.between(-8, 8), numbers.below(12)
                 if kind < 6:
                     cells.lay(name, level)
                     column = column.laid(name, level)

@@ -128,3 +128,48 @@ class NodesTest(unittest.TestCase):
                     methods = [part.name for part in node.body if isinstance(part, ast.FunctionDef)]
                     if "__getitem__" in methods:
                         self.assertIn("__iter__", methods, (name, node.name))
+
+
+class MembersTest(unittest.TestCase):
+
+    def setUp(self):
+        self.nodes = [node for _, tree in trees() for node in ast.walk(tree)]
+        self.methods = [part for node in self.nodes if isinstance(node, ast.ClassDef) for part in node.body
+                        if isinstance(part, ast.FunctionDef)]
+        self.stored = {node.attr for node in self.nodes
+                       if isinstance(node, ast.Attribute) and isinstance(node.ctx, ast.Store)}
+
+    def named(self, decorator):
+        return {method.name for method in self.methods
+                if any(isinstance(part, ast.Name) and part.id == decorator for part in method.decorator_list)}
+
+    def plain(self):
+        return {method.name for method in self.methods if not method.decorator_list}
+
+    def test_properties_have_names_of_their_own(self):
+        properties = self.named("property")
+        setters = {part.value.id for method in self.methods for part in method.decorator_list
+                   if isinstance(part, ast.Attribute)}
+        self.assertEqual(properties & self.plain(), set())
+        self.assertEqual((properties - setters) & self.stored, set())
+        for kind in (str, list, dict, tuple, int, set, bytes):
+            self.assertEqual(properties & set(dir(kind)), set())
+
+    def test_class_methods_have_names_of_their_own(self):
+        shared = self.plain() | self.named("property") | self.stored
+        self.assertEqual((self.named("classmethod") | self.named("staticmethod")) & shared, set())
+
+    def test_no_name_is_a_method_and_an_attribute(self):
+        self.assertEqual(self.plain() & self.stored, set())
+
+    def test_generators_have_names_of_their_own(self):
+        functions = [node for node in self.nodes if isinstance(node, ast.FunctionDef)]
+        names = [node.name for node in functions]
+        for node in functions:
+            if any(isinstance(part, (ast.Yield, ast.YieldFrom)) for part in ast.walk(node)):
+                self.assertEqual(names.count(node.name), 1, node.name)
+
+    def test_nothing_is_added_in_place(self):
+        for node in self.nodes:
+            if isinstance(node, ast.AugAssign):
+                self.assertIsInstance(node.value, ast.Constant)
