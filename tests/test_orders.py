@@ -15,6 +15,12 @@ A, B, C, D = ("lay", "a"), ("lay", "b"), ("lay", "c"), ("lay", "d")
 X, Y = ("cut", "x"), ("cut", "y")
 R, S = ("dike", "r"), ("dike", "s")
 
+NO_ORDERS = [
+    {A: None}, {A}, A, "a", ["lay a"], [["lay", "a"]], [A, None], [("lay", "a", 1)], [("lay",)], [("Lay", "a")],
+    [("lay", "A")], [("lay", "")], [("lay", None)], [("lay", ["a"])], [(["lay"], "a")], [("root", "a")], [(None, "a")],
+    [A, A], [A, ["cut", "x"]], [A, ("cut", "clayclayc")], [Lay("a", 1)], [[A]], ((A,),),
+]
+
 
 def rows_of(section):
     """The items of each column, from below."""
@@ -181,10 +187,7 @@ class FitsTest(Case):
 
     def test_any_value(self):
         for section in [Section.flat(1), Section.read("0 a:1"), Section.read("0 clay:1")]:
-            for value in any_values() + [{A: None}, {A}, A, "a", ["lay a"], [["lay", "a"]], [A, None],
-                                         [("lay", "a", 1)], [("lay",)], [("Lay", "a")], [("lay", "A")], [("lay", "")],
-                                         [("lay", None)], [("lay", ["a"])], [(["lay"], "a")], [("root", "a")], [(None, "a")], [A, A],
-                                         [A, ["cut", "x"]], [A, ("cut", "clayclayc")], [Lay("a", 1)], [[A]], ((A,),)]:
+            for value in any_values() + NO_ORDERS:
                 wanted = value in ([], ()) and not items(section)
                 self.same(fits(section, value), wanted)
                 if not wanted:
