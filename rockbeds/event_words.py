@@ -45,19 +45,24 @@ def can_stand(words, at, form):
     return is_index(int(word), Section.MOST_COLUMNS)
 
 
-def read_event_words(text, line):
-    """The kind of the event of one line, and the list of its names and numbers, those of a span at its end.
+def read_values(words, forms, line):
+    """The list of the names and numbers behind the first word, which must have these forms.
 
     The index of the line is for the error.
     """
-    words = text.split(" ")
-    if words[0] not in FORMS:
-        raise ParseError(line, 0)
     values = []
-    for at, form in enumerate(forms_of(words), start=1):
+    for at, form in enumerate(forms, start=1):
         if at == len(words) or not can_stand(words, at, form):
             raise ParseError(line, at)
         values.append(words[at] if form == "name" else int(words[at]))
-    if len(words) > 1 + len(values):
-        raise ParseError(line, 1 + len(values))
-    return words[0], values
+    if len(words) > 1 + len(forms):
+        raise ParseError(line, 1 + len(forms))
+    return values
+
+
+def read_event_words(text, line):
+    """The kind of the event of one line, and the list of its names and numbers, those of a span at its end."""
+    words = text.split(" ")
+    if words[0] not in FORMS:
+        raise ParseError(line, 0)
+    return words[0], read_values(words, forms_of(words), line)

@@ -1,6 +1,7 @@
 """The items of a section, and the orders in which they can have come about."""
 
 from rockbeds.columns import column_items, is_index, is_name
+from rockbeds.counting import OrderCounts
 from rockbeds.errors import InvalidOrder, NoPlace, Repeated, TooMany
 from rockbeds.sections import section_items
 
@@ -159,49 +160,35 @@ def needs_of(before):
     return [sum([1 << names.index(earlier) for earlier in before[item]]) for item in names]
 
 
-def counted_needs(section):
-    """The needs of the items of a section that has few enough of them to count its orders."""
+def counted(section):
+    """The OrderCounts of a section that has few enough items to count its orders."""
     need_readable(section)
     before = earlier_items(section)
     if len(before) > MOST_COUNTED:
         raise TooMany(MOST_COUNTED)
-    return needs_of(before)
-
-
-def ready_at(needs, placed):
-    """The indexes of the items that can follow when this set of items has been placed."""
-    return [at for at, need in enumerate(needs) if not placed & (1 << at) and need & placed == need]
-
-
-def ways(needs):
-    """For each set of placed items the number of the ways in which all others can follow."""
-    every = (1 << len(needs)) - 1
-    many = [0] * every + [1]
-    for placed in reversed(range(every)):
-        many[placed] = sum([many[placed | (1 << at)] for at in ready_at(needs, placed)])
-    return many
+    return OrderCounts(needs_of(before))
 
 
 def order_count(section):
     """How many orders of exactly the section's items fit."""
-    return ways(counted_needs(section))[0]
+    return counted(section).many
 
 
 def order_at(section, number):
     """The order with this number, from 0, of those that orders yields."""
-    needs = counted_needs(section)
-    many = ways(needs)
-    if not is_index(number, many[0]):
+    counts = counted(section)
+    if not is_index(number, counts.many):
         raise NoPlace(number)
     names = items(section)
     order = []
-    placed = 0
-    while len(order) < len(names):
-        for at in ready_at(needs, placed):
-            following = many[placed | (1 << at)]
+    left = (1 << len(names)) - 1
+    many = counts.many
+    while left:
+        for at, following in counts.beginnings(left, many):
             if number < following:
                 order.append(names[at])
-                placed = placed | (1 << at)
+                left = left ^ (1 << at)
+                many = following
                 break
             number = number - following
     return tuple(order)
@@ -209,16 +196,17 @@ def order_at(section, number):
 
 def order_number(section, order):
     """The number of this order, from 0, among those that orders yields."""
-    needs = counted_needs(section)
-    if not fits(section, order) or len(order) != len(needs):
-        raise InvalidOrder(order)
-    many = ways(needs)
+    counts = counted(section)
     names = items(section)
+    if not fits(section, order) or len(order) != len(names):
+        raise InvalidOrder(order)
     number = 0
-    placed = 0
+    left = (1 << len(names)) - 1
+    many = counts.many
     for item in order:
         place = names.index(item)
-        smaller = [at for at in ready_at(needs, placed) if at < place]
-        number = number + sum([many[placed | (1 << at)] for at in smaller])
-        placed = placed | (1 << place)
+        beginnings = counts.beginnings(left, many)
+        number = number + sum([following for at, following in beginnings if at < place])
+        many = [following for at, following in beginnings if at == place][0]
+        left = left ^ (1 << place)
     return number

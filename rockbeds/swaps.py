@@ -1,35 +1,26 @@
 """Which events can change places, and histories that are made shorter without another effect."""
 
 from rockbeds.columns import Column
+from rockbeds.errors import NoColumn
 from rockbeds.events import Cut, Dike, History, Lay, Lift, span_of
-from rockbeds.sections import Section
+from rockbeds.sections import Section, need_width
 from rockbeds.spans import whole_span
 
 
-def need_applicable(events, width):
-    """Raise what the events raise for sections of this width."""
-    section = Section.flat(width)
-    for event in events:
-        event(section)
+def columns_of(event, width):
+    """The list of the columns on which the event acts; raises what the event does for a section of this width."""
+    if isinstance(event, Lift):
+        return [at for at, by in enumerate(event.on(width)) if by != 0]
+    if isinstance(event, Dike):
+        if event.at >= width:
+            raise NoColumn(event.at)
+        return [event.at]
+    first, last = whole_span(event.span, width)
+    return list(range(first, last + 1))
 
 
 def kind_of(event):
     return "lift" if isinstance(event, Lift) else event.item[0]
-
-
-def acts_at(event, at, width):
-    """Whether the event acts on the column with this index."""
-    if isinstance(event, Lift):
-        return event.on(width)[at] != 0
-    if isinstance(event, Dike):
-        return event.at == at
-    first, last = whole_span(event.span, width)
-    return first <= at <= last
-
-
-def act_apart(one, other, width):
-    """Whether no column is acted on by both."""
-    return not any([acts_at(one, at, width) and acts_at(other, at, width) for at in range(width)])
 
 
 def commute(one, other):
@@ -51,8 +42,10 @@ def commute(one, other):
 
 def exchangeable(one, other, *, width):
     """Whether the two events have the same effect in either order on every section of this width."""
-    need_applicable([one, other], width)
-    return act_apart(one, other, width) or commute(one, other)
+    need_width(width)
+    columns = columns_of(one, width)
+    others = columns_of(other, width)
+    return not any([at in others for at in columns]) or commute(one, other)
 
 
 def reach_of(event):
@@ -60,9 +53,18 @@ def reach_of(event):
     return 0 if isinstance(event, Lift) else abs(event.level)
 
 
-def are_parted(one, other, section):
-    """Whether the two orders of the events differ on this section."""
-    return other(one(section)) != one(other(section))
+def part_below(one, other, reach, width):
+    """Whether two events that are not exchangeable differ on bedrock up to the level -reach, below their levels.
+
+    A Cut does nothing there, unless a Lift brings the bedrock up to it; every other event does something.
+    """
+    first, second = sorted([one, other], key=kind_of)
+    if not isinstance(first, Cut) or not isinstance(second, (Cut, Lift)):
+        return True
+    if isinstance(second, Cut):
+        return False
+    lifts = second.on(width)
+    return any([lifts[at] - reach >= first.level for at in columns_of(first, width)])
 
 
 def parting(one, other, *, width):
@@ -71,9 +73,8 @@ def parting(one, other, *, width):
         return None
     # Bedrock below both levels shows what Lays do, bedrock above both levels what Cuts do.
     reach = max(reach_of(one), reach_of(other)) + 1
-    low = Section([Column(-reach) for _ in range(width)])
-    high = Section([Column(reach) for _ in range(width)])
-    return low if are_parted(one, other, low) else high
+    column = Column(-reach if part_below(one, other, reach, width) else reach)
+    return Section([column for _ in range(width)])
 
 
 def summed_lift(one, other, width):
@@ -120,8 +121,10 @@ def tidied_at(events, at, width):
 
 def tidied(history, *, width):
     """A history with the same effect on every section of this width, without what makes no difference."""
+    need_width(width)
     events = list(history.events)
-    need_applicable(events, width)
+    for event in events:
+        columns_of(event, width)
     at = 0
     while at < len(events):
         changed = tidied_at(events, at, width)

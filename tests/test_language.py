@@ -42,6 +42,8 @@ def bound_names(tree):
             yield node.id
         elif isinstance(node, ast.alias):
             yield node.asname or node.name
+        elif isinstance(node, ast.ExceptHandler) and node.name:
+            yield node.name
 
 
 class FilesTest(unittest.TestCase):

@@ -392,6 +392,51 @@ class OrdersTest(Case):
             self.same(order_number(section, order), number)
         self.assertLess(order_at(section, 99999999), order_at(section, 100000000))
 
+    def test_four_columns_of_three_beds(self):
+        section = Section.read("0 a:1 b:1 c:1\n0 e:1 f:1 g:1\n0 i:1 j:1 k:1\n0 m:1 n:1 o:1")
+        self.same(order_count(section), 369600)
+        first = tuple([("lay", rock) for rock in "abcefgijkmno"])
+        last = tuple([("lay", rock) for rock in "mnoijkefgabc"])
+        self.same(order_at(section, 0), first)
+        self.same(order_at(section, 369599), last)
+        self.refused(NoPlace(369600), order_at, section, 369600)
+        self.refused(NoPlace(-1), order_at, section, -1)
+        self.refused(InvalidOrder(last[::-1]), order_number, section, last[::-1])
+        for number, order in enumerate(islice(orders(section), 2000)):
+            self.same(order_at(section, number), order)
+            self.same(order_number(section, order), number)
+        before = ()
+        for number in range(0, 369600, 100):
+            order = order_at(section, number)
+            self.assertLess(before, order)
+            self.assertIs(fits(section, order), True)
+            self.same(order_number(section, list(order)), number)
+            before = order
+
+    def test_parts_that_hang_together_and_apart(self):
+        """Counts that a formula tells: ways to mix the orders of the parts."""
+        for text, count in [("0 a:1 b:1\n0 a:1 c:1\n0 d:1 e:1\n0 f:1", 2 * 60),
+                            ("0 a:1 b:1\n0 b:1 c:1\n0 d:1 c:1\n0 e:1 f:1", 3 * 15),
+                            ("0 " + " ".join([rock + ":1" for rock in "abcdef"]) + "\n0 g:1 h:1 i:1 j:1 k:1 l:1", 924),
+                            ("0 x:1 a:1\n0 x:1 b:1\n0 x:1 c:1\n0 x:1 d:1\n0 e:1", 24 * 6),
+                            ("0 c:1 a:1\n0 c:1 b:1\n0 f:1 d:1\n0 f:1 e:1", 2 * 2 * 20)]:
+            section = Section.read(text)
+            self.same(order_count(section), count)
+            for number in [0, 1, count // 2, count - 1]:
+                self.same(order_number(section, order_at(section, number)), number)
+            if count < 1000:
+                every = list(orders(section))
+                self.assertEqual([order_at(section, number) for number in range(count)], every)
+                self.assertEqual([order_number(section, order) for order in every], list(range(count)))
+            self.refused(NoPlace(count), order_at, section, count)
+
+    def test_a_ring_beside_other_parts(self):
+        section = Section.read("0 a:1 b:1 c:1\n0 c:1 b:1\n0 d:1 e:1\n0 f:1")
+        self.same(order_count(section), 0)
+        self.refused(NoPlace(0), order_at, section, 0)
+        order = [("lay", rock) for rock in "abcdef"]
+        self.refused(InvalidOrder(order), order_number, section, order)
+
     def test_twelve_and_thirteen_items(self):
         row = "0#r~x " + " ".join([rock + ":1" for rock in "abcdefghij"])
         twelve = Section.read(row)

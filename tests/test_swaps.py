@@ -143,6 +143,54 @@ class ExchangeableTest(Case):
         self.equal(parting(one, other, width=3), parting(one, other, width=3))
 
 
+TEN = [Lay("a", 3), Lay("b", 3), Lay("a", 4), Cut("a", 3), Cut("b", 3), Cut("b", 5), Dike("c", 0, 3), Dike("c", 0, 4),
+       Tilt(1), Lay("b", 2)]
+# A row for each of them: "x" where the two are exchangeable, else what bedrock parts them, "l" low or "h" high.
+AT_WIDTH_1 = """
+    xlxllxxxxl
+    lxlllxxxxx
+    xlxllxlxxl
+    lllxhxllxx
+    lllhxxllxx
+    xxxxxxxxxx
+    xxlllxxlxx
+    xxxllxlxxx
+    xxxxxxxxxx
+    lxlxxxxxxx
+"""
+
+
+class TenEventsTest(Case):
+
+    def check(self, width, rows):
+        for one, row in zip(TEN, rows):
+            for other, wanted in zip(TEN, row):
+                with self.subTest(one=one.text(), other=other.text(), width=width):
+                    self.same(exchangeable(one, other, width=width), wanted == "x")
+                    section = parting(one, other, width=width)
+                    if wanted == "x":
+                        self.assertIsNone(section)
+                        continue
+                    reach = max([abs(event.level) for event in (one, other) if not isinstance(event, Tilt)]) + 1
+                    self.equal(section, Section([Column(reach if wanted == "h" else -reach)] * width))
+                    self.unequal(other(one(section)), one(other(section)))
+
+    def test_each_pair_at_width_1(self):
+        self.check(1, AT_WIDTH_1.split())
+
+    def test_each_pair_at_width_12(self):
+        """A Tilt lifts the columns behind the first one: so it is parted from Lays and Cuts, but not from the Dikes."""
+        rows = [list(row) for row in AT_WIDTH_1.split()]
+        for at, event in enumerate(TEN):
+            if isinstance(event, (Lay, Cut)):
+                word = "l"
+                if isinstance(event, Cut):
+                    # Column 11 rises by 11, from below the level by one more than the level to the level or above it.
+                    word = "l" if -(event.level + 1) + 11 >= event.level else "h"
+                rows[at][8] = rows[8][at] = word
+        self.check(12, rows)
+
+
 class RefusedTest(Case):
 
     def test_widths(self):
