@@ -122,7 +122,13 @@ def place_row(section, order, at, spans):
 def place_rows(section, order, spans):
     """The bounds of each place in each column, from the ground to now; the spans may be None."""
     known = {} if spans is None else spans
-    return [place_row(section, order, at, known) for at in range(GROUND, len(order) + 1)]
+    rows = [ground_row(section)]
+    older = {}
+    for item in order:
+        rows.append(event_row(section, item, older, known.get(item)))
+        older[item] = True
+    rows.append(now_row(section))
+    return rows
 
 
 def surface(section, order, at, column, *, spans=None):
