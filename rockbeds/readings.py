@@ -124,7 +124,7 @@ def is_reading(section, order, history, *, spans=None):
     if not isinstance(history, History) or history.order != tuple(order):
         return False
     wanted = {} if spans is None else spans
-    if any([span_of(event) != wanted.get(event.item) for event in history.events if event.item is not None]):
+    if any([span_of(event) != wanted.get(event.item) for event in history.events]):
         return False
     return leaves(history, section)
 

@@ -144,9 +144,7 @@ def can_follow(rows, goal, start):
 
 def is_ring(rows, first, last, value):
     """Whether any value is a ring in the run."""
-    if not isinstance(value, (list, tuple)) or len(value) == 0:
-        return False
-    if not all([is_step(rows, first, last, step) for step in value]):
+    if not isinstance(value, (list, tuple)) or not all([is_step(rows, first, last, step) for step in value]):
         return False
     if not all([can_follow(rows, value[at - 1][2], step[0]) for at, step in enumerate(value)]):
         return False

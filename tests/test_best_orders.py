@@ -54,6 +54,19 @@ class BestTest(Case):
                 checked += 1
         self.assertTrue(all(counts), counts)
 
+    def test_sections_of_short_histories(self):
+        numbers = Numbers(405)
+        worse = 0
+        for _ in range(400):
+            sample = some_sample(numbers, numbers.between(1, 4), 7)
+            if len(items(sample.section)) <= 5:
+                best = self.check(sample.section)
+                lifts = fewest_lifts(sample.section, best)
+                self.assertLessEqual(lifts, fewest_lifts(sample.section, sample.order))
+                every = [order for order in permutations(best) if fits(sample.section, order)]
+                worse += any([fewest_lifts(sample.section, order) > lifts for order in every])
+        self.assertGreater(worse, 30)
+
     def test_twelve_columns(self):
         numbers = Numbers(411)
         for _ in range(3):

@@ -46,7 +46,8 @@ class RowTest(DeskCase):
         self.says(desk, "history", "nothing")
         self.says(desk, "order", "nothing")
         self.says(desk, "reading", "0 nothing")
-        self.says(desk, "table", " at    foot     top beds column /   0       0       0    0 0 /   1       0       0    0 0")
+        rows = ["  0       0       0    0 0", "  1       0       0    0 0"]
+        self.says(desk, "table", " at    foot     top beds column / " + " / ".join(rows))
         self.says(desk, "amount clay", "0")
         self.says(desk, "at 0", "0")
         self.same(Desk(width=1).say(row="section"), "0")

@@ -102,7 +102,7 @@ class SummedTest(Case):
             self.equal(summed(*lifts, *[-lift for lift in lifts], width=width), Lift([0] * width))
 
     def test_refused(self):
-        wrong = [value for value in any_values()] + [Lay("a", 1), Cut("a", 1), Dike("a", 0, 1), History(), History(Tilt(1))]
+        wrong = any_values() + [Lay("a", 1), Cut("a", 1), Dike("a", 0, 1), History(), History(Tilt(1))]
         for value in wrong:
             for width in NO_WIDTHS:
                 self.refused(WrongWidth(width), summed, value, width=width)

@@ -3,8 +3,8 @@
 import importlib
 import inspect
 
-from rockbeds import (bounds, columns, contacts, desk, errors, events, faults, orders, readings, sections, still, surveys,
-                      swaps, texts)
+from rockbeds import (bounds, columns, contacts, desk, errors, events, faults, orders, readings, sections, still,
+                      surveys, swaps, texts)
 from rockbeds.columns import Column
 from rockbeds.desk import Desk
 from rockbeds.events import Cut, Dike, Event, Fault, History, Lay, Lift, Tilt
@@ -23,7 +23,8 @@ NAMES = {
     "events": "Event Lay Cut Dike Lift Fault Tilt History",
     "contacts": "contacts core spread table picture",
     "swaps": "exchangeable parting tidied",
-    "orders": "items need_readable fits must_be_earlier name_ring orders order_count order_at order_number need_fitting",
+    "orders": "items need_readable fits must_be_earlier name_ring orders order_count order_at order_number "
+              "need_fitting",
     "bounds": "surface",
     "still": "still shows_still",
     "readings": "Reading fewest_lifts shows_fewest is_reading best_order",
@@ -34,13 +35,14 @@ NAMES = {
 }
 OF_EVENTS = "__init__ __call__ __eq__ __add__ text"
 MEMBERS = {
-    Column: "__init__ foot beds root mark top __eq__ __len__ __contains__ __getitem__ laid cut_to turned lifted thickness",
+    Column: "__init__ foot beds root mark top __eq__ __len__ __contains__ __getitem__ laid cut_to turned lifted "
+            "thickness",
     Section: "__init__ MOST_COLUMNS flat read columns tops rocks marks __eq__ __len__ __contains__ __getitem__ __add__ "
              "part mirrored renamed amounts text",
     Event: "__call__ __add__ text", Lay: OF_EVENTS, Cut: OF_EVENTS, Dike: OF_EVENTS,
     Lift: OF_EVENTS + " on __neg__", Fault: OF_EVENTS + " on __neg__", Tilt: OF_EVENTS + " on __neg__",
-    History: "__init__ MOST_EVENTS read events order lifts spans __len__ __bool__ __contains__ __getitem__ __eq__ __add__ "
-             "text __call__ walk ledger",
+    History: "__init__ MOST_EVENTS read events order lifts spans __len__ __bool__ __contains__ __getitem__ __eq__ "
+             "__add__ text __call__ walk ledger",
     Reading: "__init__ history runs lifts paper",
     Survey: "__init__ section history moment limit change do batch trial undo redo section_at reading __eq__ __len__",
     Desk: "__init__ say",

@@ -38,7 +38,8 @@ class StillCase(Case):
 class AnswerTest(StillCase):
 
     def test_without_items(self):
-        for text, word in [("0", "still"), ("0\n0\n0", "still"), ("1", "moved"), ("-1", "moved"), ("0\n0\n-4", "moved")]:
+        for text, word in [("0", "still"), ("0\n0\n0", "still"), ("1", "moved"), ("-1", "moved"),
+                           ("0\n0\n-4", "moved")]:
             section = Section.read(text)
             self.same(self.answer(section, [], -1, 0)[0], word)
             self.same(self.answer(section, [], -1, -1)[0], "still")
@@ -273,7 +274,8 @@ class ShowsTest(StillCase):
     def test_any_value(self):
         section = Section.read("3 a:4")
         for run in [(-1, 1), (-1, 0), (1, 1)]:
-            for value in any_values() + [("still",), ("moved",), ("still", None, None), ("moved", None), "still", "moved"]:
+            for value in any_values() + [("still",), ("moved",), ("still", None, None), ("moved", None), "still",
+                                         "moved"]:
                 for shown in [value, ("still", value, value), ("moved", value), ("moved", [value]), (value, [], []),
                               (value, []), ("still", [value], [0]), ("moved", [(value, 0, -1)]),
                               ("moved", [(1, value, -1)]), ("moved", [(1, 0, value)])]:
